@@ -49,8 +49,7 @@ func PitchKey(p Pitch) int {
 	if !ok {
 		return -100
 	}
-	place := numberPlace(number)
-	return halvesInOctave*(place/stepsInOctave) + stepHalves[place%stepsInOctave] + numberAlter(number)
+	return plainHalves(numberPlace(number)) + numberAlter(number)
 }
 
 // PitchText returns the text of a valid pitch: a letter of CDEFGAB for its step, # for each half tone up or b for each down, and the octave as a digit; "" for other pitches.
@@ -115,6 +114,11 @@ func numberAlter(number int) int {
 	return number%alterCount - maxAlter
 }
 
+// plainHalves returns how many half tones it is from C up so many steps, at least 0, without alterations.
+func plainHalves(steps int) int {
+	return halvesInOctave*(steps/stepsInOctave) + stepHalves[steps%stepsInOctave]
+}
+
 // alterText returns the signs that are written for alterations in -maxAlter..maxAlter.
 func alterText(alter int) string {
 	if alter < 0 {
@@ -141,4 +145,17 @@ func stepWith(halves int) (int, bool) {
 		}
 	}
 	return 0, false
+}
+
+// pitchAt returns the valid pitch with a place and a key, and true; the zero value and false if there is none.
+func pitchAt(place int, key int) (Pitch, bool) {
+	// Checked here because plainHalves takes no negative steps.
+	if place < 0 {
+		return Pitch{}, false
+	}
+	p := Pitch{Step: place % stepsInOctave, Alter: key - plainHalves(place), Octave: place / stepsInOctave}
+	if !PitchValid(p) {
+		return Pitch{}, false
+	}
+	return p, true
 }
